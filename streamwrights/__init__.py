@@ -1,0 +1,1 @@
+"""Streamwrights: a workshop for translators of streams."""
