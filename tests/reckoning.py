@@ -119,13 +119,23 @@ def delay_of(one, other):
     return one[length:], other[length:]
 
 
+def reached(translator, letters, most):
+    """For each text of at most so many letters the pairs (last state, word) of its partial runs."""
+    found = {"": set(translator.begins)}
+    for text in all_texts(letters, most)[1:]:
+        found[text] = {(target, word + further) for state, word in found[text[:-1]]
+                       for source, letter, further, target in translator.moves
+                       if source == state and letter == text[-1]}
+    return found
+
+
 def delays_up_to(translator, letters, most):
     """All delays that texts of at most so many letters show."""
     useful = useful_states(translator)
     found = set()
-    for text in all_texts(letters, most):
-        runs = [(last, written(translator, run)) for run, last in partial_runs(translator, text) if last in useful]
-        found |= {(p, q) + delay_of(w, z) for p, w in runs for q, z in runs}
+    for rows in reached(translator, letters, most).values():
+        rows = [row for row in rows if row[0] in useful]
+        found |= {(p, q) + delay_of(w, z) for p, w in rows for q, z in rows}
     return found
 
 
