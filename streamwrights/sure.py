@@ -54,19 +54,18 @@ def two_paper(translator, stands, at, words):
     return "two", translator.reads(run), translator.writes(run) + words[0], translator.writes(other) + words[1]
 
 
-def is_row(thing):
-    """Whether any value is a tuple of two integers and two words."""
-    if not is_tuple_of(thing, 4) or not is_integer(thing[0]) or not is_integer(thing[1]):
-        return False
-    return is_word(thing[2]) and is_word(thing[3])
+def begins_with_integers(thing):
+    """Whether any value is a tuple of four items of which the first two are integers."""
+    return is_tuple_of(thing, 4) and is_integer(thing[0]) and is_integer(thing[1])
 
 
 def sure_holds(translator, thing):
     """Whether any value is a paper for a translator."""
     if is_tuple_of(thing, 2) and thing[0] == "sure":
-        # There is just one table of delays of a translator, if there is one.
-        is_rows = isinstance(thing[1], tuple) and all([is_row(row) for row in thing[1]])
-        return is_rows and judge_sure(translator) == ("sure", thing[1])
+        # There is just one table of delays of a translator, if there is one; but True and 1 are equal.
+        if not isinstance(thing[1], tuple) or not all([begins_with_integers(row) for row in thing[1]]):
+            return False
+        return judge_sure(translator) == ("sure", thing[1])
     if not is_tuple_of(thing, 4) or not thing[0] == "two" or not all([is_word(part) for part in thing[1:]]):
         return False
     answers = thing[2:]

@@ -52,9 +52,9 @@ class DriftsTest(unittest.TestCase):
         drifting = 0
         for one in ONES:
             shown = drift(translator=one)
-            known = reckoning.delays_up_to(one, "ab", DEPTH)
             if shown is None:
                 found = delays(translator=one)
+                known = reckoning.delays_up_to(one, "ab", DEPTH)
                 if set(found) != known:
                     known = reckoning.delays_up_to(one, "ab", DEPTH + 2)
                 self.assertEqual(found, tuple(sorted(known)))
@@ -94,12 +94,25 @@ class DriftsTest(unittest.TestCase):
         ahead = Translator(2, ((0, ""), (1, "x")), ((0, "a", "x", 0), (1, "a", "x", 1)), ((0, ""), (1, "")))
         self.assertEqual(delays(ahead), ((0, 0, "", ""), (0, 1, "", "x"), (1, 0, "x", ""), (1, 1, "", "")))
         # Two ways to one pair with words of one length ahead, of which just one goes on.
-        twice = Translator(2, ((0, ""), (1, "xy"), (1, "yx")), ((0, "a", "xy", 0), (1, "a", "xy", 1)), ((0, ""), (1, "")))
+        twice = Translator(2, ((0, ""), (1, "xy"), (1, "yx")), ((0, "a", "xy", 0), (1, "a", "xy", 1)),
+                           ((0, ""), (1, "")))
         self.assertTrue(is_drift(twice, drift(twice)))
         # A loop of a pair that no text meets is none, nor is one on which nothing is written.
-        quiet = Translator(3, ((0, ""), (1, "y")), ((0, "a", "", 0), (1, "a", "", 1), (2, "a", "x", 2)), ((0, ""), (1, "")))
+        quiet = Translator(3, ((0, ""), (1, "y")), ((0, "a", "", 0), (1, "a", "", 1), (2, "a", "x", 2)),
+                           ((0, ""), (1, "")))
         self.assertIsNone(drift(quiet))
         self.assertEqual(room(quiet), 1)
+
+    def test_states_of_no_use_have_no_drift(self):
+        # State 1 is met, but leads to no end; state 2 leads to one, but is not met.
+        moves = ((0, "a", "x", 0), (0, "a", "x", 1), (1, "a", "", 1), (2, "a", "yy", 2))
+        one = Translator(3, ((0, ""), (1, "")), moves, ((0, ""), (2, "")))
+        self.assertEqual((delays(one), drift(one), room(one), text_beyond(one, 0)), (((0, 0, "", ""),), None, 0, None))
+        self.assertIs(drift_holds(one, ("", "a", (0, (0,)), (1, (2,)))), False)
+        self.assertIs(drift_holds(one, ("", "a", (1, (2,)), (0, (0,)))), False)
+        useful = Translator(3, one.begins, one.moves, ((0, ""), (1, "")))
+        self.assertIs(drift_holds(useful, ("", "a", (0, (0,)), (1, (2,)))), True)
+        self.assertEqual((held(one, "aa"), held(useful, "aa")), (0, 2))
 
     def test_many_delays_without_a_drift(self):
         # Each of twelve letters doubles the words that may have been written; a loop behind them adds no drift.
@@ -119,10 +132,15 @@ class DriftsTest(unittest.TestCase):
         self.assertEqual(held(translator=LATE, text="a" * 60), 60)
         self.assertEqual(text_beyond(translator=LATE, number=20), "a" * 21)
         self.assertIsNone(held(LATE, "bb"))
+        # The longest word counts, not the last one, and only where it leads to a useful state.
+        begun = Translator(2, ((0, "xx"), (0, "y"), (1, "zzzz")), ((0, "a", "", 0),), ((0, ""),))
+        self.assertEqual((held(begun, ""), held(begun, "a")), (2, 2))
+        self.assertEqual(text_beyond(begun, 1), "")
 
     def test_drift_holds_of_changed_drifts_and_any_values(self):
-        further = [("", "", (0, ()), (1, ())), ("a", "a", (0, (0, 0)), (1, (2, 2))), ("", "aa", (0, (0, 0)), (1, (2, 2))),
-                   ("", "a", (0, (0,), 0), (1, (2,))), ("", "b", (0, (1,)), (0, (1,))), ("", "a", (0, (0,)), (0, (0,)))]
+        further = [("", "", (0, ()), (1, ())), ("a", "a", (0, (0, 0)), (1, (2, 2))),
+                   ("", "aa", (0, (0, 0)), (1, (2, 2))), ("", "a", (0, (0,), 0), (1, (2,))),
+                   ("", "b", (0, (1,)), (0, (1,))), ("", "a", (0, (0,)), (0, (0,)))]
         for one in (LATE, MANY, FORKED, ASIDE):
             shown = drift(one)
             if shown is None:

@@ -21,6 +21,8 @@ class MakingTest(unittest.TestCase):
         self.assertEqual((form.size, form.moves, form.ends), (3, ((0, "c", 1), (1, "a", 0)), (0, 2)))
         self.assertEqual((form.letters, len(form)), ("ac", 3))
         self.assertEqual(Format(1, (), ()).letters, "")
+        moves = tuple((8 - at, "zkbxqcma"[at], 0) for at in range(7, -1, -1))
+        self.assertEqual(Format(9, moves, ()).letters, "abckmqxz")
         self.assertEqual(len(Format(999, (), (998,))), 999)
 
     def test_size(self):
@@ -95,7 +97,8 @@ class ReadingTest(unittest.TestCase):
             self.assertEqual(self.place(thing), -1)
         for text in ("", "\n", "format", "format 0\nends -", "format 1000\nends -", "format 01\nends -", "format +1",
                      "format  1\nends -", "format 1 \nends -", " format 1\nends -", "Format 1\nends -", "format -",
-                     "format 1x\nends -", "format \u0661\nends -", "format \u00b2\nends -"):
+                     "format 1x\nends -", "format \u0661\nends -", "format \u00b2\nends -",
+                     "format " + "1" * 5000 + "\nends -"):
             self.assertEqual(self.place(text), 0, text)
         for text in ("format 1", "format 1\n", "format 1\nends", "format 1\nends ", "format 1\nends 1",
                      "format 2\nends 1 0", "format 2\nends 0 0", "format 2\nends 0  1", "format 2\nends - 0",

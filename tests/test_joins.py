@@ -101,7 +101,9 @@ class PapersTest(unittest.TestCase):
         if type(thing) is not tuple or len(thing) != 2:
             return False
         if type(thing[0]) is str and thing[0] == "apart":
-            return reckoning.is_word(thing[1]) and reckoning.has_text(one, thing[1]) != reckoning.has_text(other, thing[1])
+            if not reckoning.is_word(thing[1]):
+                return False
+            return reckoning.has_text(one, thing[1]) != reckoning.has_text(other, thing[1])
         if not (type(thing[0]) is str and thing[0] == "same") or type(thing[1]) is not tuple:
             return False
         for pair in thing[1]:
@@ -139,6 +141,12 @@ class PapersTest(unittest.TestCase):
         self.assertIs(compared_holds(one, other, ("same", ((-1, -1), (-1, 1), (0, 0), (1, -1)))), False)
         self.assertIs(compared_holds(one, other, ("same", ((0, 0),))), False)
         self.assertIs(compared_holds(one=one, other=other, thing=("same", ())), False)
+        # The pairs go on, but just one of a pair is an end; -1 is none.
+        loop, blind = Format(1, ((0, "a", 0),), (0,)), Format(1, ((0, "a", 0),), ())
+        self.assertIs(compared_holds(loop, blind, ("same", ((0, 0),))), False)
+        nothing, paper = Format(1, (), (0,)), ("same", ((0, 0), (1, -1)))
+        self.assertIs(compared_holds(one, nothing, paper), True)
+        self.assertIs(compared_holds(Format(2, one.moves, (0, 1)), nothing, paper), False)
         every, none = Format.by_expression("a*"), Format(1, (), ())
         self.assertIs(compared_holds(every, none, ("apart", "aaaa")), True)
         self.assertIs(compared_holds(every, none, ("apart", "ab")), False)
@@ -147,9 +155,11 @@ class PapersTest(unittest.TestCase):
     def test_changed_papers_and_any_values(self):
         cases = [(Format.by_expression("a*"), Format(2, ((0, "a", 1), (1, "a", 0)), (0, 1))),
                  (Format(2, ((0, "a", 1),), (0,)), Format(2, ((0, "b", 1),), (0,))),
-                 (Format.by_expression("(a b)*"), Format.by_expression("(a b)+"))]
+                 (Format.by_expression("(a b)*"), Format.by_expression("(a b)+")),
+                 (Format(1, ((0, "a", 0),), (0,)), Format(1, ((0, "a", 0),), ()))]
         for one, other in cases:
-            for thing in [*reckoning.mutations(compared(one, other)), *reckoning.any_values()]:
+            further = [("same", ((0, 0),)), ("same", ((0, 0), (1, 1))), ("apart", "a"), ("apart", "")]
+            for thing in [*reckoning.mutations(compared(one, other)), *reckoning.any_values(), *further]:
                 self.assertIs(compared_holds(one, other, thing), self.holds(one, other, thing), thing)
 
     def test_all_pairs_of_small_formats(self):

@@ -56,7 +56,8 @@ class LanguageTest(unittest.TestCase):
                "def f(xs):\n    rows = {x for x in xs}\n    return rows\n", "def f():\n    return 'a%b'\n",
                "def f(a, b):\n    return a is b\n", "def f(xs):\n    return xs.sort()\n", "x = '" + "a" * 130 + "'\n",
                "def f(xs):\n    return print(xs)\n", "from streamwrights.words import nothing\n", "\u00e4 = 1\n",
-               "def f():\n" + "    f()\n" * 40, "f = 0\n" * 400, "def f(xs):\n    rows = zip(xs, xs)\n    return rows\n",
+               "def f():\n" + "    f()\n" * 40, "f = 0\n" * 400,
+               "def f(xs):\n    rows = zip(xs, xs)\n    return rows\n",
                "def f(one):\n    return {*one}\n", "def f(kind='type'):\n    return kind\n",
                "class A:\n    def __len__(self):\n        return self.size\n"]
         for source in bad:
@@ -70,10 +71,12 @@ class LanguageTest(unittest.TestCase):
                "class A:\n    def __or__(self, other):\n        return f(other)\n\n\ndef f(xs):\n    xs.append(1)\n",
                "class A:\n    @property\n    def n(self):\n        rows = {k: 1 for k in self.m}\n        rows[1] = 2\n"
                "        return rows\n",
-               "class A:\n    def __sub__(self, other):\n        rows = [[]]\n        rows[0].append(1)\n        return rows\n"]
+               "class A:\n    def __sub__(self, other):\n        rows = [[]]\n        rows[0].append(1)\n"
+               "        return rows\n"]
         for source in bad:
             self.assertNotEqual(purity_rules({"some.py": source}), [], source)
-        good = "class A:\n    def __and__(self, other):\n        rows = []\n        rows.append(1)\n        return rows\n"
+        good = ("class A:\n    def __and__(self, other):\n        rows = []\n        rows.append(1)\n"
+                "        return rows\n")
         self.assertEqual(purity_rules({"some.py": good}), [])
 
 

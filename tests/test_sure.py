@@ -18,7 +18,8 @@ def useful_pairs(translator):
     met = {(p, q) for p, _ in translator.begins for q, _ in translator.begins}
     leading = {(p, q) for p, _ in translator.ends for q, _ in translator.ends}
     for _ in range(translator.states ** 2):
-        met |= {(one[3], other[3]) for one in moves for other in moves if one[1] == other[1] and (one[0], other[0]) in met}
+        met |= {(one[3], other[3]) for one in moves for other in moves
+                if one[1] == other[1] and (one[0], other[0]) in met}
         leading |= {(one[0], other[0]) for one in moves for other in moves
                     if one[1] == other[1] and (one[3], other[3]) in leading}
     return met & leading
@@ -30,7 +31,9 @@ def is_table(translator, rows):
         return reckoning.is_number(thing, translator.states)
 
     checks = (is_state, is_state, reckoning.is_word, reckoning.is_word)
-    if type(rows) is not tuple or not all(reckoning.fits(row, *checks) for row in rows) or not reckoning.is_sorted(rows):
+    if type(rows) is not tuple or not all(reckoning.fits(row, *checks) for row in rows):
+        return False
+    if not reckoning.is_sorted(rows):
         return False
     table = {row[:2]: row[2:] for row in rows}
     if len(table) != len(rows) or set(table) != useful_pairs(translator):
@@ -92,6 +95,17 @@ class SureTest(unittest.TestCase):
         grow = Translator(4, ((0, ""),), ((0, "a", "", 0), (0, "a", "x", 0), (0, "b", "", 1), (1, "b", "", 2),
                                           (2, "b", "", 3)), ((3, ""),))
         self.assertEqual(judge_sure(grow)[:2], ("two", "abbb"))
+
+    def test_very_many_delays(self):
+        # Each of thirty letters doubles the words that may have been written.
+        moves = []
+        for state in range(30):
+            moves += [(state, "a", "x", state + 1), (state, "a", "y", state + 1)]
+        ladder = Translator(31, ((0, ""),), tuple(moves), ((30, ""),))
+        self.assertEqual(judge_sure(ladder)[:2], ("two", "a" * 30))
+        self.assertIs(sure_holds(ladder, judge_sure(ladder)), True)
+        self.assertIs(sure_holds(ladder, ("two", "a" * 30, "xy" * 15, "yx" * 15)), True)
+        self.assertIs(sure_holds(ladder, ("two", "a" * 30, "xy" * 15, "yx" * 14)), False)
 
     def test_sure_holds_of_changed_papers_and_any_values(self):
         for one in (ASIDE, EVEN, TWO, MANY, EMPTY, FORKED):

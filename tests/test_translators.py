@@ -22,12 +22,14 @@ class MakingTest(unittest.TestCase):
                          (2, ((0, "x"),), ((0, "c", "", 1), (1, "a", "yy", 0)), (), "ac"))
         self.assertEqual((len(one), len(EMPTY), len(BIG)), (2, 0, 999))
         self.assertEqual(EMPTY.letters, "")
+        moves = tuple((8 - at, "zkbxqcma"[at], "", 0) for at in range(7, -1, -1))
+        self.assertEqual(Translator(9, (), moves, ()).letters, "abckmqxz")
 
     def test_wrong_parts_in_their_order(self):
         for states in (-1, 1000, True, None, "1", (1,), 10 ** 39):
             self.assertEqual(self.refused(states, None, None, None), "states")
-        for rows in (None, [], [(0, "")], ((2, ""),), ((0, "A"),), ((0, ""), (0, "")), ((1, ""), (0, "")), ((True, ""),),
-                     ((0,),), ([0, ""],), ((0, "", 0),), (0, ""), ((0, None),), ((-1, ""),)):
+        for rows in (None, [], [(0, "")], ((2, ""),), ((0, "A"),), ((0, ""), (0, "")), ((1, ""), (0, "")),
+                     ((True, ""),), ((0,),), ([0, ""],), ((0, "", 0),), (0, ""), ((0, None),), ((-1, ""),)):
             self.assertEqual(self.refused(2, rows, None, None), "begins")
             self.assertEqual(self.refused(2, (), (), rows), "ends")
         for rows in (None, [], ((0, "a", "", 2),), ((2, "a", "", 0),), ((0, "", "", 0),), ((0, "ab", "", 0),),
@@ -172,7 +174,8 @@ class RunsTest(unittest.TestCase):
         wholes = [run + (end,) for rows in runs.values() for run, last in rows
                   for end, (state, _) in enumerate(MANY.ends) if state == last]
         things = [*reckoning.mutations((0, (1, 3))), *reckoning.mutations((0, (1, 3), 0)), *reckoning.any_values()]
-        for thing in things + [(0, (1, -2)), (-1, ()), (0, (), -1), (0, (0, 5)), (3, ()), (0, (), 3), (0, [0]), [0, ()]]:
+        things += [(0, (1, -2)), (-1, ()), (0, (), -1), (0, (0, 5)), (3, ()), (0, (), 3), (0, [0]), [0, ()]]
+        for thing in things:
             kinds = reckoning.fits(thing, lambda part: type(part) is int, lambda part: type(part) is tuple and all(
                 type(index) is int for index in part))
             self.assertIs(MANY.is_partial_run(thing), kinds and thing in known, thing)

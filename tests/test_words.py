@@ -25,8 +25,8 @@ class WordsTest(unittest.TestCase):
         for row in itertools.product(words, repeat=2):
             for further in ("ab", "abba", ""):
                 found = common_prefix(*row, further)
-                longest = max((word for word in words if all(one.startswith(word) for one in row + (further,))), key=len)
-                self.assertEqual(found, longest)
+                shared = [word for word in words if all(one.startswith(word) for one in row + (further,))]
+                self.assertEqual(found, max(shared, key=len))
 
     def test_delay(self):
         self.assertEqual(delay("abc", "abd"), ("c", "d"))
