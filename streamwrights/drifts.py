@@ -3,6 +3,7 @@
 from streamwrights.errors import Drifts
 from streamwrights.heldletters import letters_held
 from streamwrights.loops import found_drift
+from streamwrights.pairs import all_stands
 from streamwrights.pairs import begin_stands
 from streamwrights.pairs import fresh_stands
 from streamwrights.pairs import pair_steps
@@ -15,15 +16,7 @@ from streamwrights.words import is_word
 
 def delay_stands(translator):
     """A stand for each delay, for a translator without a drift."""
-    steps = pair_steps(translator)
-    known = {}
-    stands = fresh_stands(known, begin_stands(translator, steps), None)
-    at = 0
-    while at < len(stands):
-        further = stands_behind(translator, steps, stands, at)
-        stands.extend(fresh_stands(known, further, None))
-        at += 1
-    return stands
+    return all_stands(translator, pair_steps(translator))
 
 
 def delays(translator):

@@ -3,21 +3,32 @@
 from streamwrights.words import common_prefix
 
 
-def longest_words(translator, useful, text):
-    """For each useful state that a text meets one of the longest words that runs to it write."""
+def longest_begun(translator, useful):
+    """For each useful state of a begin one of the longest words that stand with it."""
     longest = {}
     for state, word in translator.begins:
         if state in useful and len(word) >= len(longest.get(state, "")):
             longest[state] = word
+    return longest
+
+
+def longest_behind(translator, useful, longest, letter):
+    """For each useful state to which a letter leads one of the longest words that are written then."""
+    further = {}
+    for state in longest:
+        for index in translator.onward.get((state, letter), ()):
+            _, _, word, target = translator.moves[index]
+            written = longest[state] + word
+            if target in useful and len(written) >= len(further.get(target, "")):
+                further[target] = written
+    return further
+
+
+def longest_words(translator, useful, text):
+    """For each useful state that a text meets one of the longest words that runs to it write."""
+    longest = longest_begun(translator, useful)
     for letter in text:
-        further = {}
-        for state in longest:
-            for index in translator.onward.get((state, letter), ()):
-                _, _, word, target = translator.moves[index]
-                written = longest[state] + word
-                if target in useful and len(written) >= len(further.get(target, "")):
-                    further[target] = written
-        longest = further
+        longest = longest_behind(translator, useful, longest, letter)
     return longest
 
 

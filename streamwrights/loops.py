@@ -114,7 +114,14 @@ def uneven_drift(translator, steps, pair, loop):
 
 def found_drift(translator):
     """A drift of a translator, or None."""
-    steps = pair_steps(translator)
+    return drift_among(translator, pair_steps(translator))
+
+
+def drift_among(translator, steps):
+    """A drift that goes by the steps of some pairs alone, or None.
+
+    The steps are those among pairs that texts meet by pairs which have steps, too.
+    """
     inner = inner_steps(steps)
     uneven = uneven_loop(translator, inner)
     if uneven is not None:

@@ -43,39 +43,52 @@ def states_ending(rows, ends):
 def classes_of(rows, states, ends):
     """For each of some states its class: from states of one class the same texts lead to ends."""
     final = set(ends)
-    kinds = {state: 1 if state in final else 0 for state in states}
+    return finer_classes(rows, {state: 1 if state in final else 0 for state in states})
+
+
+def finer_classes(rows, kinds):
+    """For each state its class within a first kind, such that equal steps lead from one class to one class.
+
+    The row of a state has pairs (sign, state); steps to states without a kind are left out.
+    """
     many = 0
     while True:
         numbers = {}
         finer = {}
-        for state in states:
-            onward = [(letter, kinds[target]) for letter, target in rows[state] if target in kinds]
-            sign = (kinds[state], tuple(onward))
-            if sign not in numbers:
-                numbers[sign] = len(numbers)
-            finer[state] = numbers[sign]
+        for state in kinds:
+            onward = [(sign, kinds[target]) for sign, target in rows[state] if target in kinds]
+            whole = (kinds[state], tuple(onward))
+            if whole not in numbers:
+                numbers[whole] = len(numbers)
+            finer[state] = numbers[whole]
         if len(numbers) == many:
             return finer
         many = len(numbers)
         kinds = finer
 
 
-def numbered_classes(rows, kinds, ends, start):
-    """The machine whose states are the classes, numbered as they are met."""
-    final = set(ends)
+def first_states(rows, kinds, start):
+    """The first state of each class that is met from a state, in the order of the first texts that lead there."""
     chosen = [start]
-    numbers = {kinds[start]: 0}
-    moves = []
+    known = {kinds[start]: True}
     at = 0
     while at < len(chosen):
         row = rows[chosen[at]]
-        for letter, target in row:
-            if target in kinds:
-                if kinds[target] not in numbers:
-                    numbers[kinds[target]] = len(chosen)
-                    chosen.append(target)
-                moves.append((at, letter, numbers[kinds[target]]))
+        for _, target in row:
+            if target in kinds and kinds[target] not in known:
+                known[kinds[target]] = True
+                chosen.append(target)
         at += 1
+    return chosen
+
+
+def numbered_classes(rows, kinds, ends, start):
+    """The machine whose states are the classes, numbered as they are met."""
+    final = set(ends)
+    chosen = first_states(rows, kinds, start)
+    numbers = {kinds[state]: number for number, state in enumerate(chosen)}
+    moves = [(numbers[kinds[state]], letter, numbers[kinds[target]]) for state in chosen
+             for letter, target in rows[state] if target in kinds]
     last = [number for number, state in enumerate(chosen) if state in final]
     return len(chosen), tuple(moves), tuple(last)
 

@@ -109,6 +109,18 @@ def fresh_stands(known, stands, most):
     return fresh
 
 
+def all_stands(translator, steps):
+    """A stand for each delay of the pairs that have steps, which lead on to none with a drift."""
+    known = {}
+    stands = fresh_stands(known, begin_stands(translator, steps), None)
+    at = 0
+    while at < len(stands):
+        further = stands_behind(translator, steps, stands, at)
+        stands.extend(fresh_stands(known, further, None))
+        at += 1
+    return stands
+
+
 def runs_of(stands, at):
     """The two partial runs of the stand with an index."""
     first = []

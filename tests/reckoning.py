@@ -4,6 +4,7 @@ import itertools
 import random
 
 from streamwrights.formats import Format
+from streamwrights.sure import is_sure
 from streamwrights.translators import Translator
 
 
@@ -259,3 +260,120 @@ def translator_complaint(states, begins, moves, ends):
     if not are_rows(moves, is_state, is_letter, is_word, is_state):
         return "moves"
     return None if are_rows(ends, is_state, is_word) else "ends"
+
+
+# Sure translators.
+
+def random_reading(rng, letters="ab", out="xy", most_states=3, most_word=2):
+    """A translator with one begin, and at most one move for each state and letter, and at most one end for each state."""
+    states = rng.randint(1, most_states)
+    moves = tuple((state, letter, random_word(rng, out, most_word), rng.randrange(states)) for state in range(states)
+                  for letter in sorted(letters) if rng.random() < 0.8)
+    ends = tuple((state, random_word(rng, out, most_word)) for state in range(states)
+                 if rng.random() < 0.5 or state == states - 1)
+    return Translator(states, ((0, random_word(rng, out, 1)),), moves, ends)
+
+
+def closed(reading, letter):
+    """A translator that answers a text with one letter behind it as a reading one answers the text."""
+    moves = {(state, letter, word, reading.states) for state, word in reading.ends}
+    return Translator(reading.states + 1, reading.begins, tuple(sorted(moves | set(reading.moves))),
+                      ((reading.states, ""),))
+
+
+def random_sure(rng, letters="ab", out="ab", most_states=3, most_word=2):
+    """A sure translator: one that guesses, one that reads from behind, two of them in a row or side by side."""
+    more = {"letters": letters, "out": out, "most_states": most_states, "most_word": most_word}
+    few = {**more, "most_states": 2}
+    kind = rng.randrange(8)
+    if kind < 2:
+        return random_reading(rng, **more).turned_round()
+    if kind == 2:
+        return random_reading(rng, **few).through(random_reading(rng, **{**few, "letters": out}).turned_round())
+    if kind < 5:
+        both = [closed(random_reading(rng, **few), letter) for letter in (letters[0], letters[-1])]
+        return both[0] | both[1] if letters[0] != letters[-1] else both[0]
+    while True:
+        one = random_translator(rng, letters, out, most_states, 6, most_word)
+        if kind == 5:
+            one = random_reading(rng, **more) | random_reading(rng, **more).turned_round()
+        if kind == 6:
+            one = random_reading(rng, **more).turned_round().within(random_format(rng, letters=letters))
+        if not has_two(one, letters, 4) and is_sure(one):
+            return one
+
+
+def has_two(translator, letters, most):
+    """Whether some text of at most so many letters has two answers."""
+    reach = reached(translator, letters, most)
+    return any(len({word + tail for state, word in rows for last, tail in translator.ends if last == state}) > 1
+               for rows in reach.values())
+
+
+def random_sures(seed, many, **more):
+    rng = random.Random(seed)
+    return [random_sure(rng, **more) for _ in range(many)]
+
+
+def answers_up_to(translator, letters, most):
+    """The answers of all texts of at most so many letters that have one, by a sure translator."""
+    found = {}
+    for text, rows in reached(translator, letters, most).items():
+        words = {word + tail for state, word in rows for last, tail in translator.ends if last == state}
+        if len(words) > 1:
+            raise ValueError(text)
+        if words:
+            found[text] = words.pop()
+    return found
+
+
+def prefix_of_all(words):
+    first = words[0]
+    return first[:min(shared(first, word) for word in words)]
+
+
+def certain_words(known, letters, most):
+    """The certain words of all beginnings of at most so many letters, by the answers of longer texts, too."""
+    found = {}
+    for text, answer in known.items():
+        for length in range(min(most, len(text)) + 1):
+            begin = text[:length]
+            found[begin] = answer if begin not in found else prefix_of_all([found[begin], answer])
+    return found
+
+
+def reader_by_texts(known, letters, most, further):
+    """The parts of the least reader, by what beginnings of at most so many letters leave open for so long rests.
+
+    known are the answers of all texts of at most 1 more than both together.
+    """
+    sure = certain_words(known, letters, most + 1)
+    rests = all_texts(letters, further)
+
+    def left_open(text):
+        return tuple(known[text + rest][len(sure[text]):] if text + rest in known else None for rest in rests)
+
+    numbers, firsts = {}, []
+    for text in all_texts(letters, most):
+        if text in sure and left_open(text) not in numbers:
+            numbers[left_open(text)] = len(firsts)
+            firsts.append(text)
+    if not firsts:
+        return 0, "", (), ()
+    moves = tuple((state, letter, sure[text + letter][len(sure[text]):], numbers[left_open(text + letter)])
+                  for state, text in enumerate(firsts) for letter in sorted(letters) if text + letter in sure)
+    tails = tuple((state, known[text][len(sure[text]):]) for state, text in enumerate(firsts) if text in known)
+    return len(firsts), sure[""], moves, tails
+
+
+def reader_complaint(states, head, moves, tails):
+    """The part for which a reader is refused, or None."""
+    if not is_number(states, 1000):
+        return "states"
+    if not is_word(head) or (states == 0 and head != ""):
+        return "head"
+    complaint = translator_complaint(states, (), moves, ())
+    if complaint is not None or len({move[:2] for move in moves}) < len(moves):
+        return "moves"
+    complaint = translator_complaint(states, (), (), tails)
+    return "tails" if complaint is not None or len({tail[0] for tail in tails}) < len(tails) else None
