@@ -1,6 +1,7 @@
 """Plain reckonings of marks: papers checked by the words of the document, marks told by the answers of many texts."""
 
-from tests.reckoning import delay_of, fits, is_number, is_sorted, is_word, partial_runs, written
+from tests.reckoning import (all_texts, answers_up_to, delay_of, fits, is_number, is_sorted, is_word, partial_runs,
+                             prefix_of_all, written)
 
 
 def states_met(translator):
@@ -105,3 +106,71 @@ def holds(translator, v, w, thing):
     if not completers(translator, v) or not completers(translator, w):
         return False
     return is_alike_paper(translator, v, w, thing) or is_unlike_paper(translator, v, w, thing)
+
+
+class TextTable:
+    """What the table of a sure translator tells, by the answers of all texts of a few letters.
+
+    Which rests are alike is told by is_alike, a function of two rests.
+    """
+
+    def __init__(self, translator, letters, begin_most, rest_most, is_alike):
+        known = answers_up_to(translator, letters, begin_most + 1 + rest_most)
+        self.letters = letters
+        self.marks, self.rests = {}, []
+        seen = {(): None}
+        self.mark_of = lambda rest: seen.get(tuple(sorted(completers(translator, rest))), -1)
+        for rest in all_texts(letters, rest_most):
+            states = tuple(sorted(completers(translator, rest)))
+            if states and states not in seen:
+                like = [mark for mark, first in enumerate(self.rests) if is_alike(first, rest)]
+                seen[states] = like[0] if like else len(self.rests)
+                self.rests += [] if like else [rest]
+            if states:
+                self.marks[rest] = seen[states]
+        self.sure, self.opens = {}, {}
+        self.lefts, self.beginnings = {}, []
+        numbers = {}
+        for begin in all_texts(letters, begin_most + 1):
+            answers = {rest: known[begin + rest] for rest in self.marks if begin + rest in known}
+            if not answers and not any(text.startswith(begin) for text in known):
+                continue
+            self.sure[begin] = {mark: prefix_of_all([answers[rest] for rest in answers if self.marks[rest] == mark])
+                                for mark in {self.marks[rest] for rest in answers}}
+            left = tuple((rest, answers[rest][len(self.sure[begin][self.marks[rest]]):]) for rest in sorted(answers))
+            if left not in numbers and len(begin) <= begin_most:
+                numbers[left] = len(self.beginnings)
+                self.beginnings.append(begin)
+            self.lefts[begin] = numbers.get(left)
+        self.known = known
+
+    def told(self):
+        """Letters, first texts, and all that is told of marks, as dicts."""
+        ons = {(left, letter): self.lefts[begin + letter] for left, begin in enumerate(self.beginnings)
+               for letter in self.letters if begin + letter in self.sure}
+        backs = {(letter, right): self.mark_of(letter + rest) for right, rest in enumerate(self.rests)
+                 for letter in self.letters if self.mark_of(letter + rest) is not None}
+        goes = {(left, mark) for left, begin in enumerate(self.beginnings) for mark in self.sure[begin]}
+        words = {(left, letter, mark): word[len(self.sure[begin].get(backs[letter, mark], "")):]
+                 for left, begin in enumerate(self.beginnings) for letter in self.letters
+                 for mark, word in self.sure.get(begin + letter, {}).items()}
+        firsts = dict(self.sure.get("", {}))
+        lasts = {left: self.known[begin][len(self.sure[begin][0]):] for left, begin in enumerate(self.beginnings)
+                 if begin in self.known}
+        letters = "".join(sorted(set("".join(self.known))))
+        return letters, tuple(self.beginnings), tuple(self.rests), ons, backs, goes, words, firsts, lasts
+
+
+def told_by_table(table, letters):
+    """The same of a table, by its methods."""
+    lefts, rights = range(table.lefts), range(table.rights)
+    ons = {(left, letter): table.on(left, letter) for left in lefts for letter in letters}
+    backs = {(letter, right): table.back(letter, right) for letter in letters for right in rights}
+    goes = {(left, right) for left in lefts for right in rights if table.goes(left, right)}
+    words = {(left, letter, right): table.word(left, letter, right) for left in lefts for letter in letters
+             for right in rights}
+    firsts = {right: table.first(right) for right in rights}
+    lasts = {left: table.last(left) for left in lefts}
+    told = [{key: value for key, value in rows.items() if value is not None}
+            for rows in (ons, backs, words, firsts, lasts)]
+    return (table.letters, table.beginnings, table.rests, told[0], told[1], goes, told[2], told[3], told[4])

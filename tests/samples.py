@@ -16,3 +16,7 @@ MANY = Translator(3, ((0, ""), (0, "x"), (1, "y")), ((0, "a", "", 0), (0, "a", "
 # Two answers for each text of one letter or more, and very many runs.
 FORKED = Translator(2, ((0, ""),), ((0, "a", "x", 0), (0, "a", "x", 1), (0, "b", "", 0), (0, "b", "y", 0),
                                     (1, "a", "x", 0), (1, "a", "x", 1)), ((0, ""), (1, "")))
+
+# The b or c at the end tells what is written for each a ahead of it.
+LAST = Translator(3, ((0, ""), (1, "")), ((0, "a", "b", 0), (0, "b", "", 2), (1, "a", "a", 1), (1, "c", "", 2)),
+                  ((2, ""),))
