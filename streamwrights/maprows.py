@@ -49,10 +49,10 @@ class MapRows:
         self.times = {(one, other): self.numbers[joined_map(found[one], found[other])]
                       for one in many for other in many}
         # What joins from a map with others behind it, ahead of it, and on both sides.
-        self.onward = [tuple(sorted(set([one] + [self.times[one, other] for other in many]))) for one in many]
-        self.backward = [tuple(sorted(set([one] + [self.times[other, one] for other in many]))) for one in many]
-        self.ideals = [tuple(sorted({goal for part in self.onward[one] for goal in self.backward[part]}))
-                       for one in many]
+        self.right_ideals = [tuple(sorted(set([one] + [self.times[one, other] for other in many]))) for one in many]
+        self.left_ideals = [tuple(sorted(set([one] + [self.times[other, one] for other in many]))) for one in many]
+        self.both_ideals = [tuple(sorted({goal for part in self.right_ideals[one] for goal in self.left_ideals[part]}))
+                            for one in many]
 
     def joined(self, row):
         """The map of a row."""
@@ -81,14 +81,14 @@ class MapRows:
 
     def blocks(self, row):
         """The blocks of a row, each as short as can be with a map in the ideal of the whole; and what is left."""
-        ideal = self.ideals[self.joined(row)]
+        ideal = self.both_ideals[self.joined(row)]
         found = []
         block = []
         whole = None
         for one in row:
             block.append(one)
             whole = one if whole is None else self.times[whole, one]
-            if self.ideals[whole] == ideal:
+            if self.both_ideals[whole] == ideal:
                 found.append(block)
                 block = []
                 whole = None
@@ -98,10 +98,10 @@ class MapRows:
         """A tree for a block: all but the last map, and this one."""
         return (self.tree(block[:-1]), ()) if len(block) > 1 else ()
 
-    def steady_one(self, backward, onward):
-        """The steady map with what joins from it onward and backward, or None; backward may be None for any."""
-        for one in range(len(self.onward)):
-            if self.times[one, one] == one and self.onward[one] == onward and backward in (None, self.backward[one]):
+    def steady_one(self, left, right):
+        """The steady map with a left and a right ideal, or None; None in the place of the left one is for any."""
+        for one in range(len(self.right_ideals)):
+            if self.times[one, one] == one and self.right_ideals[one] == right and left in (None, self.left_ideals[one]):
                 return one
         return None
 
@@ -110,9 +110,10 @@ class MapRows:
 
         Between two places with one label the blocks join to the steady map of the class.
         """
-        first = self.steady_one(None, self.onward[values[0]])
-        kinds = [(self.backward[first], self.onward[values[0]])]
-        kinds.extend([(self.backward[values[at - 1]], self.onward[values[at]]) for at in range(1, len(values))])
+        start = self.right_ideals[values[0]]
+        kinds = [(self.left_ideals[self.steady_one(None, start)], start)]
+        for at in range(1, len(values)):
+            kinds.append((self.left_ideals[values[at - 1]], self.right_ideals[values[at]]))
         # For each class the map from its first place on to the block that comes next.
         running = {}
         labels = []

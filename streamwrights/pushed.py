@@ -37,7 +37,9 @@ def shared_words(tails, steps):
     Nodes have tuples of steps (word, node), and ends tuples of tails; from each node some end is met.
     """
     sources = sources_of(steps)
-    found = dict(some_words(tails, sources))
+    found = {}
+    for node, word in some_words(tails, sources).items():
+        found[node] = word
     waiting = list(found)
     while waiting:
         node = waiting.pop()

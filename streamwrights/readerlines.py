@@ -4,8 +4,7 @@ from streamwrights.errors import BadText
 from streamwrights.textlines import number_written
 from streamwrights.textlines import shown_word
 from streamwrights.textlines import word_written
-from streamwrights.translatorlines import move_written
-from streamwrights.translatorlines import pair_written
+from streamwrights.translatorlines import item_written
 
 # The kinds of lines behind the first one, in their order.
 KINDS = ("move", "tail")
@@ -30,15 +29,6 @@ def head_written(line):
     return states, head
 
 
-def item_written(line, states):
-    """The kind and the item that a line behind the first one tells, or None."""
-    parts = line.split(" ")
-    if parts[0] not in KINDS:
-        return None
-    item = move_written(parts, states) if parts[0] == "move" else pair_written(parts, states)
-    return None if item is None else (KINDS.index(parts[0]), item)
-
-
 def is_later(row, last):
     """Whether a line may stand behind another one: later in order, and no second one for the same."""
     if row <= last:
@@ -57,7 +47,7 @@ def read_reader(text):
         raise BadText(0)
     rows = []
     for at in range(1, len(lines)):
-        row = item_written(lines[at], start[0])
+        row = item_written(lines[at], start[0], KINDS)
         if row is None or (rows != [] and not is_later(row, rows[-1])):
             raise BadText(at)
         rows.append(row)

@@ -33,7 +33,7 @@ class Reader:
         self.moves = moves
         self.tails = tails
         self.steps = {(state, letter): (word, target) for state, letter, word, target in moves}
-        self.endings = {state: word for state, word in tails}
+        self.tail_words = {state: word for state, word in tails}
 
     def __len__(self):
         return len(range(self.states))
@@ -54,9 +54,9 @@ class Reader:
     def told(self, text):
         """The answer of a text, or None."""
         reached = self.led(text)
-        if reached is None or reached[0] not in self.endings:
+        if reached is None or reached[0] not in self.tail_words:
             return None
-        return reached[1] + self.endings[reached[0]]
+        return reached[1] + self.tail_words[reached[0]]
 
     def led(self, text):
         """The state to which a text leads, and what is written by then, the head included; None if it leads to none."""

@@ -17,11 +17,11 @@ class Table:
         self.lefts = len(firsts)
         self.ons = {(number, letter): numbers[kinds[goal]] for number, at in enumerate(firsts)
                     for letter, goal in left.rows[at]}
-        self.backs = dict(right.mark_ahead)
+        self.backs = right.mark_ahead
         self.pairs = {(number, mark): True for number, at in enumerate(firsts) for _, mark, _ in left.stands[at]}
         self.words = {(number, letter, mark): word for number, at in enumerate(firsts)
                       for (letter, _), told in zip(left.rows[at], left.words[at]) for mark, word in told}
-        self.first_words = dict(left.first_words)
+        self.first_words = left.first_words
         self.last_words = {number: left.tails[at] for number, at in enumerate(firsts) if left.tails[at] is not None}
         self.beginnings = first_beginnings(self.lefts, self.letters, self.ons)
 

@@ -47,13 +47,13 @@ def move_written(parts, states):
     return state, parts[2], word, target
 
 
-def item_written(line, states):
-    """The kind and the item that a line behind the first one tells, or None."""
+def item_written(line, states, kinds):
+    """The place among some kinds and the item that a line behind the first one tells, or None."""
     parts = line.split(" ")
-    if parts[0] not in KINDS:
+    if parts[0] not in kinds:
         return None
     item = move_written(parts, states) if parts[0] == "move" else pair_written(parts, states)
-    return None if item is None else (KINDS.index(parts[0]), item)
+    return None if item is None else (kinds.index(parts[0]), item)
 
 
 def read_translator(text):
@@ -66,7 +66,7 @@ def read_translator(text):
         raise BadText(0)
     rows = []
     for at in range(1, len(lines)):
-        row = item_written(lines[at], states)
+        row = item_written(lines[at], states, KINDS)
         # Rows are compared by their kind first, so lines of a later kind stand behind all others.
         if row is None or (rows != [] and row <= rows[-1]):
             raise BadText(at)

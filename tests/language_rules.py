@@ -354,6 +354,19 @@ def dunder_rules(name, source):
     return found
 
 
+def shared_name_rules(sources):
+    """L18: stricter than the rule: no name is a method of some class and an attribute of some class."""
+    methods, held = set(), set()
+    for source in sources.values():
+        tree = ast.parse(source)
+        for shape in ast.walk(tree):
+            if isinstance(shape, ast.ClassDef):
+                methods |= {part.name for part in shape.body if isinstance(part, ast.FunctionDef)}
+        held |= {node.attr for node in ast.walk(tree) if isinstance(node, ast.Attribute)
+                 and not isinstance(node.ctx, ast.Load)}
+    return [f"L18 {word} is a method and an attribute" for word in sorted(methods & held)]
+
+
 def one_file_rules(name, source, defined):
     """All complaints about one file."""
     checks = (file_rules, word_rules, module_rules, name_rules, node_rules, lazy_rules, set_rules, loop_rules,

@@ -39,6 +39,7 @@ class LanguageTest(unittest.TestCase):
         for name, source in files.items():
             self.assertEqual(rules.one_file_rules(name, source, defined), [])
         self.assertEqual(rules.cycle_rules(files), [])
+        self.assertEqual(rules.shared_name_rules(files), [])
         self.assertEqual(purity_rules(files), [])
 
     def test_generators_and_class_methods_have_names_of_their_own(self):
@@ -65,6 +66,12 @@ class LanguageTest(unittest.TestCase):
         self.assertNotEqual(rules.one_file_rules("filter.py", "A = 1\n", {}), [])
         self.assertNotEqual(rules.cycle_rules({"a.py": "from streamwrights.b import c\n",
                                                "b.py": "from streamwrights.a import d\n"}), [])
+
+    def test_script_sees_shared_names(self):
+        one = "class A:\n    def n(self):\n        return 1\n"
+        other = "class B:\n    def __init__(self):\n        self.n = 1\n"
+        self.assertEqual(rules.shared_name_rules({"a.py": one}), [])
+        self.assertNotEqual(rules.shared_name_rules({"a.py": one, "b.py": other}), [])
 
     def test_script_sees_what_operators_may_not_change(self):
         bad = ["class A:\n    def __add__(self, other):\n        self.n = 1\n        return self\n",
