@@ -101,8 +101,9 @@ class MapRows:
     def steady_one(self, left, right):
         """The steady map with a left and a right ideal, or None; None in the place of the left one is for any."""
         for one in range(len(self.right_ideals)):
-            if self.times[one, one] == one and self.right_ideals[one] == right and left in (None, self.left_ideals[one]):
-                return one
+            if self.times[one, one] == one and self.right_ideals[one] == right:
+                if left is None or self.left_ideals[one] == left:
+                    return one
         return None
 
     def labels(self, values):
