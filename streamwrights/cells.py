@@ -4,7 +4,7 @@ from streamwrights.errors import OtherTable
 from streamwrights.pieces import is_steady_map
 from streamwrights.pieces import joined_map
 from streamwrights.pieces import map_of_text
-from streamwrights.pieces import word_between
+from streamwrights.pieces import words_between
 
 
 class Cell:
@@ -62,13 +62,7 @@ class Cell:
 
 def cell_of(table, text):
     """The cell of a piece by a table."""
-    words = {}
-    for left in range(table.lefts):
-        for right in range(table.rights):
-            word = word_between(table, left, text, right)
-            if word is not None:
-                words[left, right] = word
-    return Cell(table, len(text), map_of_text(table, text), words)
+    return Cell(table, len(text), map_of_text(table, text), words_between(table, text))
 
 
 def answer_of(cell):

@@ -42,14 +42,13 @@ def flat_tree(cells):
     """A flat tree for a tuple of cells, of a height of at most three times the number of maps."""
     maps = [cell.both_maps for cell in cells]
     tree = even_tree(len(cells))
-    # With many maps pairs are flat enough.
+    # Pairs alone are flat enough, unless there are few maps: then rows of steady maps are lower.
     most = height(tree) // 3
     found = maps_joined(maps, most)
     if len(found) > most:
         return tree
     rows = MapRows(found)
-    flat = rows.tree([rows.numbers[one] for one in maps])
-    return flat if height(flat) < height(tree) else tree
+    return rows.tree([rows.numbers[one] for one in maps])
 
 
 def joined_stretches(maps):

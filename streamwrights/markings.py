@@ -3,21 +3,15 @@
 from streamwrights.alikepapers import unlike_holds
 from streamwrights.completing import completers_of
 from streamwrights.errors import BadMarking
+from streamwrights.formats import is_move
 from streamwrights.marks import judge_alike
 from streamwrights.rightmarks import RightMarks
 from streamwrights.same import refuse_unsure
 from streamwrights.values import is_ascending
 from streamwrights.values import is_index
 from streamwrights.values import is_integer
-from streamwrights.values import is_letter
 from streamwrights.values import is_tuple_of
 from streamwrights.words import is_word
-
-
-def is_move(thing, states):
-    """Whether any value is a triple of a state, a letter and a state."""
-    return (is_tuple_of(thing, 3) and is_index(thing[0], states) and is_letter(thing[1])
-            and is_index(thing[2], states))
 
 
 def is_moves(thing, states):

@@ -33,11 +33,6 @@ def completers(translator, text):
     return completers_of(translator, text)
 
 
-def are_alike(translator, v, w):
-    """Whether two rests are alike; raises NotSure(paper), then NoRest(text)."""
-    return judge_alike(translator, v, w)[0] == "alike"
-
-
 def completers_of_rest(translator, text):
     """The completers of a rest; raises NoRest(text) if it is none."""
     states = completers_of(translator, text)
@@ -59,21 +54,39 @@ def drift_of_rests(translator, steps, ones, others):
     return text, loop, translator.reads(whole)[len(text) + len(loop):], whole, second
 
 
+def unlike_paper(translator, ones, others):
+    """A paper that two rests with these completers are not alike, or None."""
+    found, onward = sets_led(translator)
+    text = first_text_apart(found, onward, ones, others)
+    if text is not None:
+        return "text", text
+    shown = drift_of_rests(translator, steps_led_on(translator, ones, others), ones, others)
+    return None if shown is None else ("drift",) + shown
+
+
+def like_paper(translator, ones, others):
+    """The paper that two rests with these completers are alike, if they are."""
+    found, _ = sets_led(translator)
+    stands = all_stands(translator, steps_led_on(translator, ones, others))
+    rows = [(pair[0], pair[1], left, right) for pair, left, right, _, _, _ in stands]
+    return "alike", tuple(sorted(found)), tuple(sorted(rows))
+
+
+def are_alike(translator, v, w):
+    """Whether two rests are alike; raises NotSure(paper), then NoRest(text)."""
+    refuse_unsure(translator)
+    ones = completers_of_rest(translator, v)
+    others = completers_of_rest(translator, w)
+    return unlike_paper(translator, ones, others) is None
+
+
 def judge_alike(translator, v, w):
     """A paper whether two rests are alike; raises NotSure(paper), then NoRest(text)."""
     refuse_unsure(translator)
     ones = completers_of_rest(translator, v)
     others = completers_of_rest(translator, w)
-    found, onward = sets_led(translator)
-    text = first_text_apart(found, onward, ones, others)
-    if text is not None:
-        return "text", text
-    steps = steps_led_on(translator, ones, others)
-    shown = drift_of_rests(translator, steps, ones, others)
-    if shown is not None:
-        return ("drift",) + shown
-    rows = [(pair[0], pair[1], left, right) for pair, left, right, _, _, _ in all_stands(translator, steps)]
-    return "alike", tuple(sorted(found)), tuple(sorted(rows))
+    paper = unlike_paper(translator, ones, others)
+    return paper if paper is not None else like_paper(translator, ones, others)
 
 
 def alike_holds(translator, v, w, thing):

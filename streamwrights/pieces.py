@@ -21,13 +21,14 @@ def right_marks(table, text, right):
     return marks[::-1]
 
 
-def word_between(table, left, text, right):
-    """The words of the letters of a text between two marks, one behind the other, or None."""
-    lefts = left_marks(table, left, text)
-    rights = right_marks(table, text, right)
-    if not table.goes(left, rights[0]):
-        return None
-    return "".join([table.word(lefts[at], letter, rights[at + 1]) for at, letter in enumerate(text)])
+def words_between(table, text):
+    """The words of a piece, for each left mark ahead of it and each right mark behind it that go with it."""
+    ways = [left_marks(table, left, text) for left in range(table.lefts)]
+    turns = [right_marks(table, text, right) for right in range(table.rights)]
+    pairs = [(left, right) for left in range(table.lefts) for right in range(table.rights)
+             if table.goes(left, turns[right][0])]
+    return {(left, right): "".join([table.word(ways[left][at], letter, turns[right][at + 1])
+                                    for at, letter in enumerate(text)]) for left, right in pairs}
 
 
 def map_of_text(table, text):

@@ -4,6 +4,7 @@ import unittest
 from streamwrights.cells import answer_of, cell_of, maps
 from streamwrights.errors import OtherTable
 from streamwrights.tables import table_of
+from streamwrights.translators import Translator
 from tests import reckoning
 from tests.samples import ASIDE, EMPTY, LAST, LATE
 
@@ -54,6 +55,14 @@ def grouped(rng, cells):
     return grouped(rng, cells[:cut]) + grouped(rng, cells[cut:])
 
 
+def all_groupings(cells):
+    """The cells joined in every grouping."""
+    if len(cells) == 1:
+        return list(cells)
+    return [one + other for cut in range(1, len(cells)) for one in all_groupings(cells[:cut])
+            for other in all_groupings(cells[cut:])]
+
+
 class CellTest(unittest.TestCase):
 
     def test_examples(self):
@@ -90,6 +99,15 @@ class CellTest(unittest.TestCase):
                     self.assertEqual(told_by_cell(joined), told(table, text))
                     self.assertEqual((len(joined), answer_of(joined)), (len(text), table.told(text)))
                 self.assertIs(whole.is_steady, (whole + whole).both_maps == whole.both_maps)
+
+    def test_all_groupings_of_all_short_texts(self):
+        for table in TABLES[::5] + TABLES[-4:]:
+            for text in reckoning.all_texts(table.letters, 4)[1:]:
+                joined = all_groupings([cell_of(table, letter) for letter in text])
+                self.assertEqual(len(joined), (1, 1, 2, 5)[len(text) - 1])
+                for cell in joined:
+                    self.assertEqual(told_by_cell(cell), told(table, text))
+                    self.assertEqual((len(cell), answer_of(cell)), (len(text), table.told(text)))
 
     def test_empty_pieces(self):
         for table in TABLES:
@@ -133,6 +151,10 @@ class CellTest(unittest.TestCase):
                 for other in cells:
                     self.assertIs(one == other, told_by_cell(one) == told_by_cell(other))
                     self.assertIs(one != other, told_by_cell(one) != told_by_cell(other))
+        # Tables that are not equal, though they do the same with all pieces.
+        ones = [table_of(Translator(1, ((0, head),), ((0, "a", "x", 0),), ((0, ""),))) for head in ("", "y")]
+        self.assertEqual(told_by_cell(cell_of(ones[0], "a")), told_by_cell(cell_of(ones[1], "a")))
+        self.assertNotEqual(cell_of(ones[0], "a"), cell_of(ones[1], "a"))
         for thing in reckoning.any_values() + [TABLE, "a", cell_of(TABLE, "a").both_maps]:
             self.assertFalse(cell_of(TABLE, "a") == thing)
 

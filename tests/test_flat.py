@@ -157,6 +157,11 @@ class FlatTest(unittest.TestCase):
             for many in (1, 2, 3, 4, 5, 6, 7):
                 cells = random_row(rng, table, many)
                 self.assertEqual(least_height(cells), least_by_trying([cell.both_maps for cell in cells]))
+        # Three odd numbers of letters make an odd number, but not a steady map.
+        odd = cell_of(ODDS, "a")
+        self.assertEqual([least_height((odd,) * many) for many in range(1, 8)],
+                         [least_by_trying([odd.both_maps] * many) for many in range(1, 8)])
+        self.assertEqual(least_height((odd,) * 3), 2)
         cells = random_row(rng, TABLE, 24)
         self.assertLessEqual(least_height(cells), 5)
         self.assertEqual(least_height((cell_of(TABLE, "a"),) * 24), 1)

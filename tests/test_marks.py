@@ -1,5 +1,6 @@
 import unittest
 
+from streamwrights.drifts import delays, drift
 from streamwrights.errors import NoRest, NotSure
 from streamwrights.marks import alike_holds, are_alike, completers, is_beginning, is_rest, judge_alike
 from streamwrights.sure import sure_holds
@@ -154,6 +155,9 @@ class PapersTest(unittest.TestCase):
         for more, held in ((((0,), (2,)), True), (((0, 1, 2),), True), (((0, 1), (1,)), True), (((0, 2),), False)):
             whole = tuple(sorted(set(sets + more)))
             self.assertIs(alike_holds(LATE, "b", "ab", (kind, whole, rows)), held)
+        # No set is empty, and all are ascending.
+        for more in ((), (1, 0), (0, 0), (0, True), (2, 2), (0, 3), (-1, 0)):
+            self.assertIs(alike_holds(LATE, "b", "ab", (kind, tuple(sorted(sets + (more,))), rows)), False)
         # Sets that lead on to others need these, too; and the set of all begins is needed.
         self.assertIs(alike_holds(LATE, "b", "ab", (kind, ((0,), (0, 1)), rows)), False)
         self.assertIs(alike_holds(LATE, "b", "ab", (kind, ((0,), (2,)), rows)), False)
@@ -168,6 +172,34 @@ class PapersTest(unittest.TestCase):
         self.assertIs(alike_holds(quiet, "a", "ba", (kind, sets, rows + ((0, 0, "xz", "xy"),))), False)
         longer = tuple(sorted(rows + ((0, 0, "xz", "xy"), (0, 0, "z", "y"))))
         self.assertIs(alike_holds(quiet, "a", "ba", (kind, sets, longer)), True)
+
+    def test_all_delays_are_rows_enough(self):
+        # So it is for the sets alone to tell which beginnings complete which rests.
+        kinds = {True: 0, False: 0}
+        for one in ONES + [ASIDE, ODD]:
+            rests = [text for text in reckoning.all_texts("ab", 2) if is_rest(one, text)]
+            if rests == [] or drift(one) is not None:
+                continue
+            thing = ("alike", judge_alike(one, rests[0], rests[0])[1], delays(one))
+            for v in rests:
+                for w in rests:
+                    held = are_alike(one, v, w)
+                    kinds[held] += 1
+                    self.assertIs(alike_holds(one, v, w, thing), held)
+        self.assertGreater(min(kinds.values()), 100)
+
+    def test_rows_of_states_that_no_text_meets(self):
+        # States 2 and 3 lead on to state 0 by the same letter, so their rows need further ones.
+        one = Translator(4, ((0, ""),), ((0, "a", "x", 0), (1, "a", "x", 0), (2, "a", "xy", 0), (3, "a", "x", 0)),
+                         ((0, ""),))
+        kind, sets, rows = judge_alike(one, "", "a")
+        self.assertEqual((kind, sets, rows), ("alike", ((0,),), ((0, 0, "", ""),)))
+        for more, held in (((1, 3, "", ""), True), ((2, 2, "", ""), True), ((1, 2, "y", "x"), False),
+                           ((1, 1, "y", ""), False), ((2, 3, "", ""), False), ((3, 1, "z", "z"), True),
+                           ((1, 1, "zx", "zx"), True), ((3, 2, "", ""), False), ((1, 2, "", ""), False)):
+            thing = (kind, sets, tuple(sorted(rows + (more,))))
+            self.assertIs(alike_holds(one, "", "a", thing), held, more)
+            self.assertIs(markreckoning.holds(one, "", "a", thing), held, more)
 
     def test_the_set_of_all_begins_counts_the_states_of_no_use_too(self):
         kind, sets, rows = judge_alike(ODD, "", "a")

@@ -87,6 +87,8 @@ class ReadingTest(unittest.TestCase):
         for line in ("tail 3 xy", "tail 3 z", "tail 2 z", "move 11 a x 0", "tail 10 -\ntail 10 a", "tail 10 x\n"):
             self.assertEqual(self.place(rest + line), 4 + line.count("\n"), line)
         self.assertEqual(Reader.read(rest + "tail 10 -").tails, ((3, "xy"), (10, "")))
+        # The first tail may be one of the state of the last move.
+        self.assertEqual(Reader.read(head + "tail 2 -").tails, ((2, ""),))
 
     def test_changed_texts(self):
         for odd in reckoning.mutations(str(LOOSE)):
