@@ -9,7 +9,8 @@ from streamwrights.values import is_letter
 def format_lines(size, moves, ends):
     """The lines of the text of a format."""
     shown = " ".join([str(state) for state in ends]) if ends != () else "-"
-    return [f"format {size}", f"ends {shown}"] + [f"move {move[0]} {move[1]} {move[2]}" for move in moves]
+    steps = [f"move {state} {letter} {target}" for state, letter, target in moves]
+    return [f"format {size}", f"ends {shown}", *steps]
 
 
 def size_written(line):

@@ -14,7 +14,7 @@ def reader_lines(states, head, moves, tails):
     """The lines of the text of a reader."""
     steps = [f"move {state} {letter} {shown_word(word)} {target}" for state, letter, word, target in moves]
     last = [f"tail {state} {shown_word(word)}" for state, word in tails]
-    return [f"reader {states} {shown_word(head)}"] + steps + last
+    return [f"reader {states} {shown_word(head)}", *steps, *last]
 
 
 def head_written(line):

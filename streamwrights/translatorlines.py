@@ -15,7 +15,7 @@ def translator_lines(states, begins, moves, ends):
     heads = [f"begin {state} {shown_word(word)}" for state, word in begins]
     steps = [f"move {state} {letter} {shown_word(word)} {target}" for state, letter, word, target in moves]
     tails = [f"end {state} {shown_word(word)}" for state, word in ends]
-    return [f"translator {states}"] + heads + steps + tails
+    return [f"translator {states}", *heads, *steps, *tails]
 
 
 def states_written(line):

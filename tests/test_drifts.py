@@ -103,6 +103,27 @@ class DriftsTest(unittest.TestCase):
         self.assertIsNone(drift(quiet))
         self.assertEqual(room(quiet), 1)
 
+    def test_drifts_behind_one_way_alone(self):
+        # Two ways lead to the states 1 and 2 with words of one length ahead; behind just one of them the loop by c
+        # keeps what is ahead.
+        for words in (("x", "y"), ("y", "x"), ("x", "x")):
+            moves = [(0, letter, word, 1) for letter, word in zip("ab", words)] + [(0, "a", "", 2), (0, "b", "", 2)]
+            one = Translator(4, ((0, ""),), tuple(sorted(moves + [(1, "c", "x", 1), (1, "d", "", 3), (2, "c", "x", 2),
+                                                                  (2, "e", "", 3)])), ((3, ""),))
+            shown = drift(one)
+            self.assertIs(shown is None, words == ("x", "x"))
+            self.assertTrue(shown is None or is_drift(one, shown))
+
+    def test_loops_that_write_nothing_ahead_of_one_that_writes(self):
+        # The delay of x and y stays as it is by b, and grows by c, also behind many a b.
+        for word in ("x", ""):
+            one = Translator(6, ((0, ""),), ((0, "a", "x", 1), (0, "a", "y", 2), (1, "b", "", 1), (1, "c", "", 3),
+                                             (2, "b", "", 2), (2, "c", "", 4), (3, "c", word, 3), (3, "d", "", 5),
+                                             (4, "c", word, 4), (4, "e", "", 5)), ((5, ""),))
+            shown = drift(one)
+            self.assertIs(shown is None, word == "")
+            self.assertTrue(shown is None or is_drift(one, shown))
+
     def test_states_of_no_use_have_no_drift(self):
         # State 1 is met, but leads to no end; state 2 leads to one, but is not met.
         moves = ((0, "a", "x", 0), (0, "a", "x", 1), (1, "a", "", 1), (2, "a", "yy", 2))

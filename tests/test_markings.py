@@ -174,6 +174,18 @@ class EnoughTest(unittest.TestCase):
             for odd in [*reckoning.mutations(judge_marking(one, marking)), *reckoning.any_values(), *further]:
                 self.assertIs(marking_holds(one, marking, odd), holds(one, marking, odd), odd)
 
+    def test_papers_of_two_rests_that_are_none_or_have_no_mark(self):
+        one = Marking(1, ((0, "a", 0), (0, "b", 0)))
+        self.assertIs(marking_holds(ASIDE, one, ("short", "b", "", ("text", ""))), True)
+        # bb is no rest; so no beginning completes it, but this is no paper.
+        for v, w in (("bb", ""), ("", "bb"), ("bb", "b"), ("b", "bb")):
+            for text in ("", "a"):
+                self.assertIs(marking_holds(ASIDE, one, ("short", v, w, ("text", text))), False)
+        # Both have no told mark.
+        none = Marking(1, ())
+        self.assertIs(marking_holds(ASIDE, none, ("short", "b", "ab", ("text", ""))), False)
+        self.assertIs(marking_holds(ASIDE, one, ("short", "b", "ab", ("text", ""))), True)
+
     def test_not_sure(self):
         marking = Marking(1, ())
         for call in (lambda: judge_marking(FORKED, marking), lambda: marking_holds(FORKED, marking, 0),

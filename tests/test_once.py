@@ -86,6 +86,13 @@ class OnceTest(unittest.TestCase):
         self.assertGreater(drifting, 10)
         self.assertTrue({0, 1, 2, 3, 4, 5} <= sizes)
 
+    def test_words_left_over_stand_ahead_of_the_tail(self):
+        # Behind an a nothing is certain: the end writes what state 2 has written already, and then its own word.
+        one = Translator(6, ((0, ""),), ((0, "a", "", 1), (0, "a", "y", 2), (1, "b", "", 4), (2, "b", "w", 3),
+                                         (4, "b", "z", 5), (5, "b", "z", 5)), ((2, "x"), (3, ""), (5, "")))
+        self.assertEqual(reader_of(one), Reader(4, "", ((0, "a", "", 1), (1, "b", "", 2), (2, "b", "z", 3),
+                                                        (3, "b", "z", 3)), ((1, "yx"), (2, "yw"), (3, ""))))
+
     def test_readers_that_do(self):
         # Not least, with words written late, and with states of no use.
         late = Reader(3, "", ((0, "a", "", 1), (1, "a", "x", 1), (1, "b", "y", 0), (1, "c", "", 2)),

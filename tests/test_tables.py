@@ -29,6 +29,21 @@ def alike_by(translator):
     return is_alike
 
 
+def made(*parts):
+    return Translator(parts[0], *[tuple(sorted(rows)) for rows in parts[1:]])
+
+
+def branched(one, order):
+    """A translator that goes on behind an a, and behind a b with other numbers, as a given one."""
+    other, many = one.renumbered(order), one.states
+    begins = [(0, "ab"[at], word, state + 1 + at * many) for at, side in enumerate((one, other))
+              for state, word in side.begins]
+    moves = [(state + 1 + at * many, letter, word, target + 1 + at * many) for at, side in enumerate((one, other))
+             for state, letter, word, target in side.moves]
+    ends = [(state + 1 + at * many, word) for at, side in enumerate((one, other)) for state, word in side.ends]
+    return made(1 + 2 * many, ((0, ""),), begins + moves, ends)
+
+
 class TableTest(unittest.TestCase):
 
     def test_examples(self):
@@ -120,6 +135,59 @@ class TableTest(unittest.TestCase):
                 self.assertIs(table != second, not are_same(one, other))
                 equal += table == second
         self.assertGreater(equal, len(ones) + 40)
+
+    def test_equal_in_all_that_is_told(self):
+        # Tables that are alike but in where one letter leads ahead, or behind, or in one word at the end.
+        def spread(state):
+            return made(4, ((0, ""),), ((0, "a", "", 1), (0, "b", "", 2), (0, "c", "", state), (1, "a", "x", 3),
+                                        (1, "b", "y", 3), (2, "a", "y", 3), (2, "b", "x", 3)), ((3, ""),))
+
+        def closed(state):
+            return made(3, ((0, ""), (1, "")), ((0, "a", "b", 0), (0, "b", "", 2), (1, "a", "a", 1), (1, "c", "", 2),
+                                                (state, "d", "", 2)), ((2, ""),))
+
+        def ended(word):
+            return made(1, ((0, ""),), ((0, "a", "x", 0),), ((0, word),))
+
+        for one, other in ((spread(1), spread(2)), (closed(0), closed(1)), (ended(""), ended("z"))):
+            first, second = [markreckoning.told_by_table(table_of(each), "abcd") for each in (one, other)]
+            self.assertEqual([part == more for part, more in zip(first, second)].count(False), 1)
+            self.assertIs(table_of(one) == table_of(other), False)
+            self.assertIs(table_of(one) != table_of(other), True)
+
+    def test_numbers_of_states_do_not_matter(self):
+        for one in ONES[:60] + [LATE, LAST, ASIDE]:
+            order = tuple(range(one.states))[::-1]
+            both = branched(one, order)
+            table = table_of(both)
+            self.assertEqual(table, table_of(branched(one, order[::-1])))
+            for text in reckoning.all_texts("ab", 4):
+                self.assertEqual(table.left_mark("a" + text), table.left_mark("b" + text))
+
+    def test_rests_that_drift_for_some_beginnings_alone(self):
+        # Behind one of a and b both runs stay in step, behind the other one they do not.
+        for words in (("x", "y"), ("y", "x")):
+            moves = [(0, letter, word, 1) for letter, word in zip("ab", words)] + [(0, "a", "", 2), (0, "b", "", 2)]
+            one = made(4, ((0, ""),), moves + [(1, "c", "x", 1), (1, "d", "", 3), (2, "c", "x", 2), (2, "e", "", 3)],
+                       ((3, ""),))
+            self.assertEqual(table_of(one).rests, ("", "d", "e", "ad"))
+            self.assertIs(alike_by(one)("d", "e"), False)
+
+    def test_rests_with_unlike_words_but_no_drift_behind_them(self):
+        # What is written for d and e is not the same, but only behind a b it grows.
+        one = made(6, ((0, ""),), ((0, "a", "x", 1), (0, "a", "y", 2), (1, "b", "", 3), (1, "d", "", 5),
+                                   (2, "b", "", 4), (2, "e", "", 5), (3, "b", "z", 3), (3, "f", "", 5),
+                                   (4, "b", "z", 4), (4, "g", "", 5)), ((5, ""),))
+        self.assertEqual(table_of(one).rests, ("", "d", "f", "g", "ad", "bf", "bg"))
+        self.assertEqual([alike_by(one)("d", "e"), alike_by(one)("f", "g")], [True, False])
+
+    def test_words_left_over_stand_ahead_of_the_last_word(self):
+        one = Translator(6, ((0, ""),), ((0, "a", "", 1), (0, "a", "y", 2), (1, "b", "", 4), (2, "b", "w", 3),
+                                         (4, "b", "z", 5), (5, "b", "z", 5)), ((2, "x"), (3, ""), (5, "")))
+        table = table_of(one)
+        self.assertEqual((table.rests, table.beginnings), (("", "a"), ("", "a", "ab", "abb")))
+        self.assertEqual([table.last(left) for left in range(4)], [None, "yx", "yw", ""])
+        self.assertEqual([table.told("a" + "b" * many) for many in range(4)], ["yx", "yw", "z", "zz"])
 
     def test_tables_hang_on_answers_alone(self):
         for one in [ASIDE, LATE, LAST] + ONES[:20]:
