@@ -69,6 +69,11 @@ class JoinedTest(unittest.TestCase):
             self.assertIs(one.form.is_same(other.form), not apart)
             self.assertIs(one.form.is_within(other.form), not one.texts - other.texts)
         self.assertEqual(Format.by_expression("(a | (a b))").parting(Format.by_expression("(a b)?")), "")
+        # The letters of a text apart stand in their order.
+        long, none = Format.by_expression("(a b (a | c) b)"), Format.by_expression("0")
+        self.assertEqual((long.parting(none), none.parting(long)), ("abab", "abab"))
+        self.assertEqual(compared(Format.by_expression("(a a b)*"), Format.by_expression("(a a b)?")),
+                         ("apart", "aabaab"))
         self.assertTrue(Format(2, ((0, "a", 1),), (0,)).is_same(Format(1, (), (0,))))
 
     def test_unlike_letters(self):
