@@ -49,17 +49,21 @@ def read_format(text):
     """The size, moves and ends of a text of a format; raises BadText(place) for any value that is none."""
     if not isinstance(text, str):
         raise BadText(-1)
-    lines = text.split("\n")
-    size = size_written(lines[0])
+    return format_of_lines(text.split("\n"), 0)
+
+
+def format_of_lines(lines, start):
+    """The parts that lines tell; raises BadText(place), counted from a start, for the first line that is wrong."""
+    size = size_written(lines[0]) if lines != [] else None
     if size is None:
-        raise BadText(0)
+        raise BadText(start)
     ends = ends_written(lines[1], size) if len(lines) > 1 else None
     if ends is None:
-        raise BadText(1)
+        raise BadText(start + 1)
     moves = []
     for at in range(2, len(lines)):
         move = move_written(lines[at], size)
         if move is None or (moves != [] and move <= moves[-1]):
-            raise BadText(at)
+            raise BadText(start + at)
         moves.append(move)
     return size, tuple(moves), ends

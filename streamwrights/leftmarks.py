@@ -51,8 +51,8 @@ class LeftMarks:
         self.steps = steps_of_nodes(translator, marks)
         self.shared = shared_of_nodes(translator, self.steps)
         self.letters = "".join(sorted({letter for _, _, letter in self.steps}))
-        self.first_words, self.stands, self.rows, self.words = self.machine()
-        self.tails = [self.tail(stand) for stand in self.stands]
+        self.first_words, self.stand_rows, self.rows, self.words = self.machine()
+        self.tails = [self.tail(stand) for stand in self.stand_rows]
 
     def begun(self):
         """For each node of the empty text what is written there, and on all ways on."""
@@ -102,6 +102,6 @@ class LeftMarks:
     def classes(self):
         """The class of each stand, and the first stand of each class, in the order of the first beginnings."""
         signs = [[((letter, told), goal) for (letter, goal), told in zip(self.rows[at], self.words[at])]
-                 for at in range(len(self.stands))]
-        kinds = finer_classes(signs, {at: self.tails[at] for at in range(len(self.stands))})
-        return kinds, first_states(signs, kinds, 0) if self.stands != [] else []
+                 for at in range(len(self.stand_rows))]
+        kinds = finer_classes(signs, {at: self.tails[at] for at in range(len(self.stand_rows))})
+        return kinds, first_states(signs, kinds, 0) if self.stand_rows != [] else []

@@ -130,3 +130,16 @@ def texts_of_length(rows, layers):
             layer = layers[length - len(text) - 1]
             onward = [(target, text + letter) for letter, target in rows[state] if layer[target]]
             waiting.extend(onward[::-1])
+
+
+def word_machine(word):
+    """The machine with just one text."""
+    return len(word) + 1, tuple([(at, letter, at + 1) for at, letter in enumerate(word)]), (len(word),)
+
+
+def other_machine(size, moves, ends, letters):
+    """The machine of all texts of some letters that a machine does not have; its last state stands for nowhere."""
+    steps = {(state, letter): target for state, letter, target in moves}
+    onward = [(state, letter, steps.get((state, letter), size)) for state in range(size + 1) for letter in letters]
+    final = set(ends)
+    return size + 1, tuple(onward), tuple([state for state in range(size + 1) if state not in final])

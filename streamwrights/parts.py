@@ -4,6 +4,11 @@ from streamwrights.machines import states_ending
 from streamwrights.machines import states_met
 
 
+def parts_of(translator):
+    """The parts of a translator."""
+    return translator.states, translator.begins, translator.moves, translator.ends
+
+
 def states_useful(states, begins, moves, ends):
     """The ascending list of the states that are met on some run."""
     # One more state stands ahead of all begins, so that all that is met is met from it.

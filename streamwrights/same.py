@@ -15,6 +15,11 @@ def parting_text(one, other):
     """A shortest text that parts two translators, or None; raises NotSure(paper)."""
     refuse_unsure(one)
     refuse_unsure(other)
+    return parting_of_sure(one, other)
+
+
+def parting_of_sure(one, other):
+    """A shortest text that parts two sure translators, or None."""
     lone = one.domain().parting(other.domain())
     paper = judge_sure(one | other)
     if paper[0] == "sure":

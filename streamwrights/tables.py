@@ -18,7 +18,7 @@ class Table:
         self.ons = {(number, letter): numbers[kinds[goal]] for number, at in enumerate(firsts)
                     for letter, goal in left.rows[at]}
         self.backs = right.mark_ahead
-        self.pairs = {(number, mark): True for number, at in enumerate(firsts) for _, mark, _ in left.stands[at]}
+        self.pairs = {(number, mark): True for number, at in enumerate(firsts) for _, mark, _ in left.stand_rows[at]}
         self.words = {(number, letter, mark): word for number, at in enumerate(firsts)
                       for (letter, _), told in zip(left.rows[at], left.words[at]) for mark, word in told}
         self.first_words = left.first_words

@@ -60,16 +60,20 @@ def read_translator(text):
     """The parts of a text of a translator; raises BadText(place) for any value that is none."""
     if not isinstance(text, str):
         raise BadText(-1)
-    lines = text.split("\n")
-    states = states_written(lines[0])
+    return translator_of_lines(text.split("\n"), 0)
+
+
+def translator_of_lines(lines, start):
+    """The parts that lines tell; raises BadText(place), counted from a start, for the first line that is wrong."""
+    states = states_written(lines[0]) if lines != [] else None
     if states is None:
-        raise BadText(0)
+        raise BadText(start)
     rows = []
     for at in range(1, len(lines)):
         row = item_written(lines[at], states, KINDS)
         # Rows are compared by their kind first, so lines of a later kind stand behind all others.
         if row is None or (rows != [] and row <= rows[-1]):
-            raise BadText(at)
+            raise BadText(start + at)
         rows.append(row)
     begins, moves, ends = [tuple([item for kind, item in rows if kind == wanted]) for wanted in range(3)]
     return states, begins, moves, ends

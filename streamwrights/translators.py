@@ -5,6 +5,7 @@ from streamwrights.errors import BadTranslator
 from streamwrights.formats import Format
 from streamwrights.parts import both_parts
 from streamwrights.parts import filter_parts
+from streamwrights.parts import parts_of
 from streamwrights.parts import renumbered_parts
 from streamwrights.parts import states_useful
 from streamwrights.parts import trimmed_parts
@@ -16,6 +17,7 @@ from streamwrights.runs import is_whole
 from streamwrights.runs import state_behind
 from streamwrights.runs import text_of_run
 from streamwrights.runs import word_of_run
+from streamwrights.sides import read_side
 from streamwrights.subsets import least_of_sets
 from streamwrights.translatorlines import read_translator
 from streamwrights.translatorlines import translator_lines
@@ -92,9 +94,9 @@ class Translator:
         return "\n".join(translator_lines(self.states, self.begins, self.moves, self.ends))
 
     def __or__(self, other):
-        one = trimmed_parts(self.states, self.begins, self.moves, self.ends)
-        second = trimmed_parts(other.states, other.begins, other.moves, other.ends)
-        both = both_parts(one, second)
+        one = parts_of(self)
+        second = parts_of(other)
+        both = both_parts(trimmed_parts(*one), trimmed_parts(*second))
         return Translator(*both)
 
     @classmethod
@@ -135,22 +137,18 @@ class Translator:
 
     def domain(self):
         """The least format of the texts that have an answer."""
-        _, begins, moves, ends = trimmed_parts(self.states, self.begins, self.moves, self.ends)
-        steps = [(state, letter, target) for state, letter, _, target in moves]
-        machine = least_of_sets([state for state, _ in begins], steps, [state for state, _ in ends])
+        side = read_side(parts_of(self))
+        machine = least_of_sets(*side)
         return Format(*machine)
 
     def through(self, other):
         """A translator with the answers by the other one of the answers by this one."""
-        one = (self.states, self.begins, self.moves, self.ends)
-        second = (other.states, other.begins, other.moves, other.ends)
-        parts = Chain(one, second).parts()
+        parts = Chain(parts_of(self), parts_of(other)).parts()
         return Translator(*parts)
 
     def within(self, form):
         """A translator with the answers of just those texts that are texts of a format."""
-        own = (self.states, self.begins, self.moves, self.ends)
-        parts = Chain(filter_parts(form.size, form.moves, form.ends), own).parts()
+        parts = Chain(filter_parts(form.size, form.moves, form.ends), parts_of(self)).parts()
         return Translator(*parts)
 
     def turned_round(self):
