@@ -11,9 +11,8 @@ from streamwrights.marks import judge_alike
 from streamwrights.once import certain, once
 from streamwrights.paces import pace, pipe_paper
 from streamwrights.same import parting_text
-from streamwrights.sure import is_sure, judge_sure
+from streamwrights.sure import judge_sure
 from streamwrights.tables import table_of
-from streamwrights.translators import Translator
 from tests import findingreckoning, linereckoning, reckoning
 from tests.linereckoning import ANY
 from tests.samples import AB, ASIDE, EMPTY, FORKED, LAST, LATE, MANY
