@@ -284,6 +284,8 @@ class PapersTest(unittest.TestCase):
             self.assertIs(back_holds(DROP, thing), False, thing)
             if not (isinstance(thing, tuple) and len(thing) == 2 and isinstance(thing[1], Translator)):
                 self.assertIs(back_holds(DOUBLE, thing), False, thing)
+        for kind in ("other", "twins", "Back", "", None, 1, True, b"back"):
+            self.assertIs(back_holds(DOUBLE, (kind, way_back(DOUBLE))), False, kind)
         self.assertIs(back_holds(DROP, ("twins", "", "b" * 2000, "")), True)
         self.assertIs(back_holds(DROP, ("twins", "a" * 2000, "b" * 2000, "")), False)
 
