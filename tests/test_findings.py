@@ -195,6 +195,12 @@ class FindingsTest(unittest.TestCase):
                       ("comes", narrow, "a", "b"), ("fits", str(AB)), ("fits", str(ASIDE)), ("lines", one, str(AB)),
                       ("unlike lines", one, str(ASIDE), "a"), ("fits", one, one)):
             self.assertIs(finding_holds(thing), False, thing)
+        # The texts of just one of both forms stop: the forms have unlike texts all the same.
+        small = str(STOP.within(Format.by_expression("b*")))
+        for thing in (("lines", stop, small), ("lines", small, stop), ("unlike lines", stop, small, "a"),
+                      ("unlike lines", small, stop, "a")):
+            self.assertIs(finding_holds(thing), False, thing)
+        self.assertIs(finding_holds(("lines", small, small)), True)
 
     def test_any_values(self):
         for thing in reckoning.any_values() + ["fits", ("fits",), (ASIDE, ASIDE), ((), ()), ("sure", ASIDE, ()), b"fits"]:
